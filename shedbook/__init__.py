@@ -1,0 +1,1 @@
+"""Shedbook: a log store with questions and forgetting by rule."""
