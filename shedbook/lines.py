@@ -73,7 +73,6 @@ def read_line(text):
 
 def read_field(text):
     """Return the pair of the name and the value of a written field."""
-    name, sign, value = text.partition("=")
-    if sign == "":
-        raise Malformed()
+    # Without the sign the value is the empty text, which is no written value.
+    name, _, value = text.partition("=")
     return (name, read_value(value))

@@ -54,9 +54,8 @@ def write_schema(kind, columns):
 
 def read_schema(text):
     """Return the kind and the columns with this written form; raise Malformed if there are none."""
-    kind, space, written = text.partition(" ")
-    if space == "":
-        raise Malformed()
+    # Without the space, or a sign of a column, what follows is empty, and that is never a written form.
+    kind, _, written = text.partition(" ")
     columns = [read_column(item) for item in read_bracketed("(", written, ")")]
     if not is_schema(kind, columns):
         raise Malformed()
@@ -65,8 +64,6 @@ def read_schema(text):
 
 def read_column(text):
     """Return the name, the sort and the default of a written column."""
-    name, colon, rest = text.partition(":")
-    sort, sign, default = rest.partition("=")
-    if colon == "" or sign == "":
-        raise Malformed()
+    name, _, rest = text.partition(":")
+    sort, _, default = rest.partition("=")
     return (name, sort, read_value(default))
