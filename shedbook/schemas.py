@@ -54,7 +54,7 @@ def write_schema(kind, columns):
 
 def read_schema(text):
     """Return the kind and the columns with this written form; raise Malformed if there are none."""
-    # Without the space, or a sign of a column, what follows is empty, and that is never a written form.
+    # Without the space the rest is empty, and it lacks its brackets.
     kind, _, written = text.partition(" ")
     columns = [read_column(item) for item in read_bracketed("(", written, ")")]
     if not is_schema(kind, columns):
@@ -64,6 +64,7 @@ def read_schema(text):
 
 def read_column(text):
     """Return the name, the sort and the default of a written column."""
+    # Without one of the signs the default is the empty text, which is no written value.
     name, _, rest = text.partition(":")
     sort, _, default = rest.partition("=")
     return (name, sort, read_value(default))
