@@ -36,14 +36,18 @@ def sort_of(value):
     return "word" if isinstance(value, str) else "int"
 
 
+def seen_in(column, line):
+    """Return the value that a line has in a column, or else the default of the column."""
+    name, sort, default = column
+    for field, value in line[4]:
+        if field == name and sort_of(value) == sort:
+            return value
+    return default
+
+
 def view(columns, line):
     """Return the dict that gives each column its value in the line, or else its default."""
-    fields = dict(line[4])
-    seen = {}
-    for name, sort, default in columns:
-        value = fields.get(name, default)
-        seen[name] = value if sort_of(value) == sort else default
-    return seen
+    return {column[0]: seen_in(column, line) for column in columns}
 
 
 def write_schema(kind, columns):

@@ -74,3 +74,16 @@ def raises(error, function, *arguments):
 
 def sign(first, second):
     return (first > second) - (first < second)
+
+
+def check_unshared(case, find):
+    """Check that the lists that a call returns can be changed without effect on what it returns later."""
+    first, second = find(), find()
+    wanted = list(second)
+    case.assertIsNot(first, second)
+    first.append("x")
+    first.reverse()
+    case.assertEqual(second, wanted)
+    case.assertEqual(find(), wanted)
+    second.clear()
+    case.assertEqual(find(), wanted)

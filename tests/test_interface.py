@@ -19,6 +19,27 @@ INTERFACE = {
     "segments": {"segment_of": "line", "pack_natural": "number", "pack_integer": "number",
                  "pack_word": "word", "pack_value": "value", "pack_segment": "lines",
                  "unpack_segment": "data", "split_segments": "lines"},
+    "questions": {"read_question": "text", "write_question": "question", "kinds_of": "question",
+                  "shows_subject": "question"},
+    "meaning": {"matches": "source lines", "value_of": "name schemas match", "holds": "condition schemas match",
+                "cells_of": "question schemas match", "rows_of": "question cells", "row_key": "row",
+                "answer": "question schemas lines"},
+    "plans": {"fixed_tests": "condition", "paths": "question", "path_lines": "path question schemas index",
+              "best_path": "question schemas index", "run": "question schemas index"},
+    "answers": {"touches": "question line"},
+    "watches": {"difference": "old new", "from_parts": "parts"},
+}
+
+CLASSES = {
+    "questions.BadQuestion": {"__init__": "line column reason"},
+    "index.Index": {"__init__": "lines", "add": "line", "remove": "line", "has": "line", "all_lines": "",
+                    "of_kind": "kind", "of_subject": "kind subject", "of_times": "kind low high",
+                    "of_value": "kind name value", "values_of": "kind name", "subjects": "", "parts": ""},
+    "answers.Answers": {"__init__": "", "ask": "question schemas index", "line_changed": "line",
+                        "schema_changed": "kind", "kept": ""},
+    "live.Live": {"__init__": "question schemas lines", "change": "subject schemas index", "rows": "", "parts": ""},
+    "watches.Watches": {"__init__": "", "add": "name question rows", "drop": "name", "names": "",
+                        "question": "name", "rows": "name", "refresh": "schemas index", "parts": ""},
 }
 
 LINE = (12, "visit", "anna", 3, (("age", 47), ("town", "lund")))
@@ -26,6 +47,43 @@ OTHER = (12, "visit", "bo", 3, ())
 COLUMNS = [("age", "int", 0), ("town", "word", "none")]
 RULES = [("keep", "visit", 30), ("must", "visit", 1), ("blur", "visit", "age", 10, 3), ("hold", "bo", 14),
          ("forget", "bo", 5), ("erase", "visit", "town", 40), ("sum", "visit", "age", 10)]
+
+QUESTION = (("pairs", "visit", "visit", 5), ("and", (("test", ("this", "age"), "above", ("value", 4)),
+                                                     ("test", ("this", "town"), "is", ("value", "lund")))),
+            ("rows", (("this", "age"), ("that", "town"))), (0, "down"), 3)
+GROUPS = (("of", "visit"), ("all",), ("groups", 5, (("this", "town"),), (("count",), ("sum", ("this", "age")))), (), 0)
+SCHEMAS = {"visit": COLUMNS, "sale": []}
+NEXT = (14, "visit", "anna", 3, (("age", 9), ("town", "york")))
+LINES = [LINE, OTHER, NEXT]
+CELLS = [(10, "lund", 0, 4), (5, "lund", 0, 4), (10, "lund", 0, 7)]
+TEXT = "of visit\nwhere age is 1 and town is \"lund\"\nrows age\norder 0 up"
+
+
+def watches():
+    made = module("watches").Watches()
+    made.add("b", QUESTION, [(47, "york")])
+    made.add("a", GROUPS, [])
+    return made
+
+
+def answers():
+    made = module("answers").Answers()
+    for question in (QUESTION, GROUPS):
+        made.ask(question, SCHEMAS, index())
+    return made
+
+
+def live():
+    return module("live").Live(QUESTION, SCHEMAS, LINES)
+
+
+def index():
+    return module("index").Index(LINES)
+
+
+def module(name):
+    return importlib.import_module("shedbook." + name)
+
 
 # Calls of every function that takes or returns a list or a dict, and of the others with tuples.
 CALLS = [
@@ -66,16 +124,87 @@ CALLS = [
     ("segments", "unpack_segment", ([1, 2, 1, 1, 1, 2, 0, 0, 1, 1, 1, 0, 0],)),
     ("segments", "split_segments", ([OTHER, LINE, (900, "a", "b", 1, ())],)),
     ("segments", "split_segments", ([],)),
+    ("questions", "read_question", (TEXT,)),
+    ("questions", "write_question", (QUESTION,)),
+    ("questions", "kinds_of", (QUESTION,)),
+    ("questions", "shows_subject", (QUESTION,)),
+    ("meaning", "matches", (("of", "visit"), LINES)),
+    ("meaning", "matches", (QUESTION[0], LINES)),
+    ("meaning", "matches", (("chains", ("visit", "visit"), 5), LINES)),
+    ("meaning", "value_of", (("this", "age"), SCHEMAS, (LINE, NEXT))),
+    ("meaning", "holds", (QUESTION[1], SCHEMAS, (LINE, NEXT))),
+    ("meaning", "cells_of", (QUESTION, SCHEMAS, (LINE, NEXT))),
+    ("meaning", "cells_of", (GROUPS, SCHEMAS, (LINE, LINE))),
+    ("meaning", "rows_of", (QUESTION, [(1, "x"), (3, "a"), (2, 5)])),
+    ("meaning", "rows_of", (QUESTION[:3] + ((), 0), [(1, "x"), (3, "a"), (2, 5)])),
+    ("meaning", "rows_of", (QUESTION[:3] + ((), 0), [(1, "x"), (2, "a")])),
+    ("meaning", "rows_of", (GROUPS, CELLS)),
+    ("meaning", "rows_of", (GROUPS, [])),
+    ("meaning", "row_key", ((1, "x"),)),
+    ("meaning", "answer", (QUESTION, SCHEMAS, LINES)),
+    ("meaning", "answer", (GROUPS, SCHEMAS, LINES)),
+    ("meaning", "answer", (GROUPS, {}, [])),
+    ("plans", "fixed_tests", (QUESTION[1],)),
+    ("plans", "fixed_tests", (QUESTION[1][1][0],)),
+    ("plans", "fixed_tests", (("all",),)),
+    ("plans", "paths", (QUESTION,)),
+    ("plans", "path_lines", (("kind",), QUESTION, SCHEMAS, index())),
+    ("plans", "path_lines", (("subject", "anna"), QUESTION, SCHEMAS, index())),
+    ("plans", "path_lines", (("times", 0, 12), QUESTION, SCHEMAS, index())),
+    ("plans", "path_lines", (("field", "town", "lund"), QUESTION, SCHEMAS, index())),
+    ("plans", "path_lines", (("field", "town", "none"), QUESTION, SCHEMAS, index())),
+    ("plans", "best_path", (QUESTION, SCHEMAS, index())),
+    ("plans", "run", (QUESTION, SCHEMAS, index())),
+    ("plans", "run", (GROUPS, SCHEMAS, index())),
+    ("answers", "touches", (QUESTION, LINE)),
+    ("watches", "difference", ([(2,), (1,), (1,)], [(3,), (1,)])),
+    ("watches", "difference", ([], [])),
+    ("index", "all_lines", (index(),)),
+    ("index", "of_kind", (index(), "visit")),
+    ("index", "of_kind", (index(), "none")),
+    ("index", "of_subject", (index(), "visit", "anna")),
+    ("index", "of_times", (index(), "visit", 0, 12)),
+    ("index", "of_value", (index(), "visit", "age", 9)),
+    ("index", "values_of", (index(), "visit", "age")),
+    ("index", "subjects", (index(),)),
+    ("index", "parts", (index(),)),
+    ("index", "has", (index(), LINE)),
+    ("answers", "ask", (answers(), QUESTION, SCHEMAS, index())),
+    ("answers", "kept", (answers(),)),
+    ("answers", "line_changed", (answers(), (1, "none", "anna", 0, ()))),
+    ("answers", "schema_changed", (answers(), "none")),
+    ("live", "rows", (live(),)),
+    ("live", "parts", (live(),)),
+    ("live", "change", (live(), "anna", SCHEMAS, index())),
+    ("watches", "names", (watches(),)),
+    ("watches", "rows", (watches(), "b")),
+    ("watches", "rows", (watches(), "a")),
+    ("watches", "question", (watches(), "b")),
+    ("watches", "parts", (watches(),)),
 ]
 
 
-def module(name):
-    return importlib.import_module("shedbook." + name)
+def function_of(name, function_name, arguments):
+    """Return the function of the module, or the method of the first argument if this is an object."""
+    if inspect.isfunction(getattr(module(name), function_name, None)):
+        return getattr(module(name), function_name)
+    return getattr(arguments[0].__class__, function_name)
+
+
+def shown(value):
+    """Return a value with what its objects hold in place of them."""
+    if isinstance(value, (list, tuple)):
+        return [value.__class__.__name__] + [shown(part) for part in value]
+    if isinstance(value, dict):
+        return [(shown(key), shown(value[key])) for key in value]
+    return shown(vars(value)) if hasattr(value, "__dict__") else value
 
 
 def boxes_in(value):
-    """Return all lists and dicts within a value, itself included."""
+    """Return all lists and dicts within a value and the objects in it, itself included."""
     found = [value] if isinstance(value, (list, dict)) else []
+    if hasattr(value, "__dict__"):
+        return boxes_in(vars(value))
     if isinstance(value, dict):
         value = list(value.values())
     if isinstance(value, (list, tuple)):
@@ -105,14 +234,30 @@ class Interface(unittest.TestCase):
                     self.assertEqual(function.__name__, function_name)
                     self.assertEqual(list(inspect.signature(function).parameters), parameters.split())
 
+    def test_classes(self):
+        for path, methods in CLASSES.items():
+            name, class_name = path.split(".")
+            made = getattr(module(name), class_name)
+            self.assertTrue(inspect.isclass(made))
+            self.assertEqual((made.__module__, made.__name__), ("shedbook." + name, class_name))
+            for method_name, parameters in methods.items():
+                with self.subTest(path + "." + method_name):
+                    method = vars(made)[method_name]
+                    self.assertTrue(inspect.isfunction(method))
+                    self.assertEqual(list(inspect.signature(method).parameters)[1:], parameters.split())
+
+    def test_attributes(self):
+        fault = module("questions").BadQuestion(1, 2, "too deep")
+        self.assertEqual((fault.line, fault.column, fault.reason), (1, 2, "too deep"))
+        self.assertEqual(live().question, QUESTION)
 
 class NothingIsShared(unittest.TestCase):
     def test_arguments_are_not_modified(self):
         for name, function_name, arguments in CALLS:
             with self.subTest(name + "." + function_name):
                 given = copy.deepcopy(arguments)
-                getattr(module(name), function_name)(*given)
-                self.assertEqual(given, arguments)
+                function_of(name, function_name, arguments)(*given)
+                self.assertEqual(shown(given), shown(arguments))
 
     def test_arguments_are_not_modified_by_a_call_that_raises(self):
         failing = [
@@ -128,7 +273,7 @@ class NothingIsShared(unittest.TestCase):
     def test_results_are_not_shared(self):
         for name, function_name, arguments in CALLS:
             with self.subTest(name + "." + function_name):
-                function = getattr(module(name), function_name)
+                function = function_of(name, function_name, arguments)
                 given = copy.deepcopy(arguments)
                 first = function(*given)
                 wanted = copy.deepcopy(first)
@@ -136,7 +281,7 @@ class NothingIsShared(unittest.TestCase):
                 boxes = boxes_in(given) + boxes_in(first) + boxes_in(second)
                 self.assertEqual(len({id(box) for box in boxes}), len(boxes))
                 spoil(first)
-                self.assertEqual(given, arguments)
+                self.assertEqual(shown(given), shown(arguments))
                 self.assertEqual(second, wanted)
                 self.assertEqual(function(*given), wanted)
 

@@ -10,9 +10,9 @@ BUILTINS = set("""len range enumerate zip min max sum abs sorted reversed int st
 METHODS = set("""append clear copy count endswith extend find get index insert isalnum isalpha isdigit islower
     isspace isupper items join keys ljust lower lstrip partition pop remove replace reverse rfind rjust rpartition
     rsplit rstrip setdefault split splitlines startswith strip update upper values zfill""".split())
-BARRED_NODES = (ast.Global, ast.AsyncFunctionDef, ast.Await, ast.With, ast.Lambda, ast.Set, ast.GeneratorExp,
+BARRED_NODES = (ast.Global, ast.AsyncFunctionDef, ast.Await, ast.With, ast.Set, ast.GeneratorExp,
                 ast.SetComp, ast.Yield, ast.YieldFrom, ast.Nonlocal, ast.Div, ast.AnnAssign, ast.NamedExpr,
-                ast.Starred, ast.Import, ast.Try)
+                ast.Starred, ast.Import)
 BARRED_NAMES = set("""register mro elements open input law type id hash next map iter filter vars dir eval exec
     compile print chr hex bin oct pow round format object""".split())
 
@@ -72,6 +72,17 @@ class Language(unittest.TestCase):
                     self.assertEqual(node.decorator_list, [])
                 if isinstance(node, ast.Constant):
                     self.assertNotIsInstance(node.value, (float, complex, bytes))
+
+    def test_handlers(self):
+        own = [node.name for text in all_texts() for node in ast.walk(ast.parse(text)) if isinstance(node, ast.ClassDef)]
+        for text in all_texts():
+            for node in ast.walk(ast.parse(text)):
+                if isinstance(node, ast.Try):
+                    self.assertEqual(node.finalbody, [])
+                if isinstance(node, ast.ExceptHandler):
+                    self.assertIn(node.type.id, own)
+                if isinstance(node, ast.Raise) and node.exc is not None:
+                    self.assertIn(node.exc.func.id, own)
 
     def test_module_level(self):
         allowed = (ast.Expr, ast.ImportFrom, ast.FunctionDef, ast.ClassDef, ast.Assign)
