@@ -7,6 +7,8 @@ from shedbook.values import compare_values, value_key
 
 # What compare_values tells of two values that are in a relation.
 FITTING = {"is": (0,), "differs": (-1, 1), "below": (-1,), "above": (1,)}
+# The places in a line of what no column of this name hides.
+PLACES = {"time": 0, "subject": 2, "serial": 3}
 
 
 def split_subjects(lines):
@@ -69,14 +71,9 @@ def value_of(name, schemas, match):
     """Return the value of a name for a match."""
     side, word = name
     line = match[0] if side == "this" else match[1]
-    time, kind, subject, serial, _ = line
-    if word == "time":
-        return time
-    if word == "serial":
-        return serial
-    if word == "subject":
-        return subject
-    column = column_of(schemas, kind, word)
+    if word in PLACES:
+        return line[PLACES[word]]
+    column = column_of(schemas, line[1], word)
     return 0 if column is None else seen_in(column, line)
 
 

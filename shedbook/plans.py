@@ -1,12 +1,11 @@
 """Plans: paths to the lines with which matches can begin (points 47 to 50)."""
 
 from shedbook.lines import GREATEST_TIME, sorted_lines
-from shedbook.meaning import cells_found, column_of, matches_from, rows_of, value_of
+from shedbook.meaning import PLACES, cells_found, column_of, matches_from, rows_of, value_of
 from shedbook.questions import kinds_of, source_kinds
 from shedbook.schemas import sort_of
 
 NO_TIMES = ("times", 1, 0)
-WORDS_OF_LINES = ("time", "serial", "subject")
 
 
 def fixed_tests(condition):
@@ -77,7 +76,7 @@ def is_in_fields(path, kind, schemas):
     """Tell whether a line has the value of a path exactly if it has it in a field."""
     _, word, value = path
     column = column_of(schemas, kind, word)
-    if column is None or word in WORDS_OF_LINES:
+    if column is None or word in PLACES:
         return False
     _, sort, default = column
     return sort == sort_of(value) and default != value

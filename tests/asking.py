@@ -1,7 +1,5 @@
 """What the tests of questions need: random questions, schemas and lines, and plain answers by another way."""
 
-from tests.helpers import WORDS
-
 KINDS = ("sale", "refund", "visit")
 SUBJECTS = ("ann", "bo", "cy")
 COLUMNS = ("cost", "town")
@@ -11,10 +9,6 @@ SCHEMAS = {
     "sale": [("cost", "int", 0), ("reason", "word", "none"), ("serial", "int", 7), ("town", "word", "lund")],
     "refund": [("cost", "int", -5), ("subject", "word", "x"), ("time", "int", 3)],
 }
-
-
-def time_of(first):
-    return first[0]
 
 
 def random_schemas(rng):
