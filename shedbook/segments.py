@@ -173,6 +173,23 @@ class Reader:
             raise Malformed()
         return "".join([self.letter() for _ in range(length)])
 
+    def value(self):
+        """Return the value that comes next."""
+        sort = self.byte()
+        if sort == 0:
+            return self.integer()
+        if sort == 1:
+            return self.word()
+        raise Malformed()
+
+    def several(self, many):
+        """Return the list of as many bytes that come next."""
+        start = self.at
+        if many > len(self.data) - start:
+            raise Malformed()
+        self.at += many
+        return self.data[start:self.at]
+
 
 def read_place(reader, words):
     """Return the word whose place comes next."""

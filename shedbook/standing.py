@@ -1,4 +1,4 @@
-"""What a consistent list of rules leaves of lines at a moment (points 10 to 12 and 16)."""
+"""What a consistent list of rules leaves of lines at a moment (points 10 to 12, 16 and 65)."""
 
 from shedbook.lines import sorted_lines
 from shedbook.rules import rule_key
@@ -10,11 +10,21 @@ def age_of(now, line):
     return now - line[0]
 
 
+def holds_on_to(rule, now, subject):
+    """Tell whether the rule is a "hold" rule that protects the subject at the moment."""
+    return rule[0] == "hold" and rule[1] == subject and now < rule[2]
+
+
+def is_held(rules, now, subject):
+    """Tell whether a "hold" rule protects the subject at the moment."""
+    return any([holds_on_to(rule, now, subject) for rule in rules])
+
+
 def protects(rule, now, line):
     """Tell whether the rule protects the line at the moment."""
     if rule[0] == "must":
         return rule[1] == line[1] and age_of(now, line) < rule[2]
-    return rule[0] == "hold" and rule[1] == line[2] and now < rule[2]
+    return holds_on_to(rule, now, line[2])
 
 
 def is_protected(rules, now, line):
@@ -101,7 +111,43 @@ def expired(rules, now, line):
     return coarsened(rules, now, line)
 
 
+def split_rules(rules):
+    """Return the dict from the kinds and subjects that rules name to the lists of these rules."""
+    found = {}
+    for rule in rules:
+        found.setdefault(rule[1], []).append(rule)
+    return found
+
+
+def rules_for(split, line):
+    """Return the list of those of the split rules that may concern a line: they name its kind or its subject."""
+    words = sorted(set([line[1], line[2]]))
+    return [rule for word in words for rule in split.get(word, [])]
+
+
 def standing_lines(rules, now, lines):
     """Return the list of what stands of the lines, in ascending order, without duplicates."""
-    left = [left_of(rules, now, line) for line in lines]
+    split = split_rules(rules)
+    left = [left_of(rules_for(split, line), now, line) for line in lines]
+    return sorted_lines([line for line in left if line is not None])
+
+
+def expired_forms(rules, now, lines):
+    """Return the list of the different forms that expire of the lines, in ascending order."""
+    split = split_rules(rules)
+    forms = [expired(rules_for(split, line), now, line) for line in lines]
+    return sorted_lines([form for form in forms if form is not None])
+
+
+def left_in_backup(rules, now, line):
+    """Return what the rules leave of a line of a backup at the moment, or None."""
+    if is_protected(rules, now, line):
+        return line
+    return None if is_forgotten(rules, line) else erased(rules, line)
+
+
+def lines_in_backup(rules, now, lines):
+    """Return the list of what is left of the lines of a backup, in ascending order, without duplicates."""
+    split = split_rules(rules)
+    left = [left_in_backup(rules_for(split, line), now, line) for line in lines]
     return sorted_lines([line for line in left if line is not None])

@@ -66,9 +66,13 @@ class Watches:
 
     def refresh(self, schemas, index):
         """Ask every question anew; return the list of each name, what came and what went, if anything did."""
+        return self.renew({name: run(self.asked[name], schemas, index) for name in self.names()})
+
+    def renew(self, answers):
+        """Take the new answers, by the name; return the list of each name, what came and what went, if anything did."""
         told = []
         for name in self.names():
-            rows = run(self.asked[name], schemas, index)
+            rows = list(answers[name])
             came, went = difference(self.latest[name], rows)
             self.latest[name] = rows
             if len(came) + len(went) > 0:

@@ -28,6 +28,9 @@ INTERFACE = {
               "best_path": "question schemas index", "run": "question schemas index"},
     "answers": {"touches": "question line"},
     "watches": {"difference": "old new", "from_parts": "parts"},
+    "sums": {"window_of": "line width", "add_number": "kept line field width number",
+             "window_sums": "rule lines kept", "goes": "rules now row"},
+    "images": {"pack_store": "store", "unpack_store": "data"},
 }
 
 CLASSES = {
@@ -40,6 +43,11 @@ CLASSES = {
     "live.Live": {"__init__": "question schemas lines", "change": "subject schemas index", "rows": "", "parts": ""},
     "watches.Watches": {"__init__": "", "add": "name question rows", "drop": "name", "names": "",
                         "question": "name", "rows": "name", "refresh": "schemas index", "parts": ""},
+    "store.Store": {"__init__": "", "now": "", "rules": "", "lines": "", "kept": "", "kinds": "", "schema": "kind",
+                    "advance": "moment", "set_schema": "kind columns", "add_rule": "rule", "drop_rule": "rule",
+                    "tell": "line", "sums": "kind field", "ask": "text", "watch": "name text", "unwatch": "name",
+                    "watched": "", "news": "", "backup": "name", "restore": "name", "drop_backup": "name",
+                    "backup_lines": "name", "backups": ""},
 }
 
 LINE = (12, "visit", "anna", 3, (("age", 47), ("town", "lund")))
@@ -64,6 +72,31 @@ def watches():
     made.add("b", QUESTION, [(47, "york")])
     made.add("a", GROUPS, [])
     return made
+
+
+KEPT = [("visit", "age", 10, 1, "anna", 2, 9, -1, 10), ("visit", "age", 10, 1, "bo", 1, 7, 7, 7)]
+SUM = ("sum", "visit", "age", 10)
+
+
+def store():
+    """Return a store that has each of the parts, and news."""
+    made = module("store").Store()
+    made.set_schema("visit", COLUMNS)
+    made.set_schema("sale", [])
+    for rule in (SUM, ("keep", "visit", 30)):
+        made.add_rule(rule)
+    for line in LINES:
+        made.tell(line)
+    made.backup("b")
+    made.backup("c")
+    made.watch("w", TEXT)
+    made.watch("v", "of visit\nrows age")
+    made.advance(43)
+    return made
+
+
+def image():
+    return module("images").pack_store(store())
 
 
 def answers():
@@ -181,6 +214,45 @@ CALLS = [
     ("watches", "rows", (watches(), "a")),
     ("watches", "question", (watches(), "b")),
     ("watches", "parts", (watches(),)),
+    ("sums", "window_of", (LINE, 10)),
+    ("sums", "add_number", (KEPT, LINE, "age", 10, 47)),
+    ("sums", "add_number", (KEPT, LINE, "age", 11, 47)),
+    ("sums", "add_number", ([], LINE, "age", 10, 47)),
+    ("sums", "window_sums", (SUM, LINES, KEPT)),
+    ("sums", "window_sums", (SUM, [], [])),
+    ("sums", "goes", (RULES, 20, KEPT[0])),
+    ("images", "pack_store", (store(),)),
+    ("images", "unpack_store", (image(),)),
+    ("images", "unpack_store", ([0] * 7,)),
+    ("store", "now", (store(),)),
+    ("store", "rules", (store(),)),
+    ("store", "lines", (store(),)),
+    ("store", "kept", (store(),)),
+    ("store", "kinds", (store(),)),
+    ("store", "schema", (store(), "visit")),
+    ("store", "schema", (store(), "sale")),
+    ("store", "sums", (store(), "visit", "age")),
+    ("store", "ask", (store(), TEXT)),
+    ("store", "ask", (store(), "of visit\nrows age")),
+    ("store", "watched", (store(),)),
+    ("store", "news", (store(),)),
+    ("store", "backups", (store(),)),
+    ("store", "backup_lines", (store(), "b")),
+]
+
+# Calls that change their store, with what is given to them.
+CHANGES = [
+    ("advance", (60,)),
+    ("set_schema", ("visit", COLUMNS)),
+    ("set_schema", ("nosuch", [])),
+    ("add_rule", (("erase", "visit", "town", 9),)),
+    ("drop_rule", (SUM,)),
+    ("tell", (NEXT,)),
+    ("watch", ("x", TEXT)),
+    ("unwatch", ("w",)),
+    ("backup", ("x",)),
+    ("restore", ("b",)),
+    ("drop_backup", ("b",)),
 ]
 
 
@@ -251,6 +323,7 @@ class Interface(unittest.TestCase):
         self.assertEqual((fault.line, fault.column, fault.reason), (1, 2, "too deep"))
         self.assertEqual(live().question, QUESTION)
 
+
 class NothingIsShared(unittest.TestCase):
     def test_arguments_are_not_modified(self):
         for name, function_name, arguments in CALLS:
@@ -270,6 +343,29 @@ class NothingIsShared(unittest.TestCase):
             self.assertRaises(ValueError, getattr(module(name), function_name), *given)
             self.assertEqual(given, arguments)
 
+    def test_calls_that_change_a_store(self):
+        """They modify nothing that is given to them, and share nothing that was returned or given before."""
+        shows = "rules lines kept kinds watched news backups".split()
+        for name, arguments in CHANGES:
+            with self.subTest(name):
+                made, given = store(), copy.deepcopy(arguments)
+                earlier = [getattr(made, show)() for show in shows] + [made.backup_lines("c"), made.schema("visit")]
+                wanted = copy.deepcopy(earlier)
+                getattr(made, name)(*given)
+                self.assertEqual(given, arguments)
+                self.assertEqual(earlier, wanted)
+                packed = module("images").pack_store(made)
+                spoil(given)
+                spoil(earlier)
+                self.assertEqual(module("images").pack_store(made), packed)
+
+    def test_unpacked_stores_share_nothing(self):
+        given = image()
+        made, wanted = module("images").unpack_store(given), list(given)
+        self.assertEqual(len({id(box) for box in boxes_in(made)}), len(boxes_in(made)))
+        spoil(given)
+        self.assertEqual(module("images").pack_store(made), wanted)
+
     def test_results_are_not_shared(self):
         for name, function_name, arguments in CALLS:
             with self.subTest(name + "." + function_name):
@@ -282,8 +378,8 @@ class NothingIsShared(unittest.TestCase):
                 self.assertEqual(len({id(box) for box in boxes}), len(boxes))
                 spoil(first)
                 self.assertEqual(shown(given), shown(arguments))
-                self.assertEqual(second, wanted)
-                self.assertEqual(function(*given), wanted)
+                self.assertEqual(shown(second), shown(wanted))
+                self.assertEqual(shown(function(*given)), shown(wanted))
 
 
 if __name__ == "__main__":

@@ -80,7 +80,9 @@ class Language(unittest.TestCase):
                 if isinstance(node, ast.Try):
                     self.assertEqual(node.finalbody, [])
                 if isinstance(node, ast.ExceptHandler):
-                    self.assertIn(node.type.id, own)
+                    caught = node.type.elts if isinstance(node.type, ast.Tuple) else [node.type]
+                    for name in caught:
+                        self.assertIn(name.id, own)
                 if isinstance(node, ast.Raise) and node.exc is not None:
                     self.assertIn(node.exc.func.id, own)
 
@@ -117,9 +119,10 @@ class Language(unittest.TestCase):
             own += [node.name for node in ast.walk(ast.parse(text_of(name)))
                     if isinstance(node, (ast.FunctionDef, ast.ClassDef))]
         for text in all_texts():
+            given = [node.arg for node in ast.walk(ast.parse(text)) if isinstance(node, ast.arg)]
             for call in calls_of(ast.parse(text)):
                 if isinstance(call.func, ast.Name):
-                    self.assertTrue(call.func.id in BUILTINS or call.func.id in own, call.func.id)
+                    self.assertIn(call.func.id, sorted(BUILTINS) + own + given)
                 else:
                     self.assertIsInstance(call.func, ast.Attribute)
                     self.assertTrue(call.func.attr in METHODS or call.func.attr in own, call.func.attr)

@@ -7,6 +7,7 @@ from shedbook.lines import check_line, sorted_lines
 from shedbook.segments import (pack_integer, pack_natural, pack_segment, pack_value, pack_word,
                                segment_of, split_segments, unpack_segment)
 from tests.helpers import LETTERS, NUMBERS, raises, random_line, seeded, spoiled_lists
+from tests.packing import expected_pack, natural, raw, word
 
 SEGMENT = [
     (64, "visit", "anna", 3, (("age", 40), ("town", "lund"))),
@@ -23,71 +24,6 @@ PACKED = ([3, 7]
           + [3, 4, 200, 1]
           + [2, 0, 0, 80, 5, 1, 3] + [0] + [1, 0, 0, 1])
 SMALL = [(0, "a", "b", 0, ())]
-
-
-def natural(number):
-    """Pack a natural number by another way than the program: from the highest digit."""
-    if number < 128:
-        return [number]
-    return [number % 128 + 128] + natural(number // 128)
-
-
-def word(text):
-    return natural(len(text)) + [LETTERS.index(letter) + 1 for letter in text]
-
-
-def joined(parts):
-    return [byte for part in parts for byte in part]
-
-
-def raw(words, times, kinds, subjects, serials, fields, many=None):
-    """Pack columns without any check: times as differences, runs and fields with places."""
-    data = natural(len(times) if many is None else many) + natural(len(words))
-    data += joined([word(text) for text in words])
-    data += joined([natural(time) for time in times])
-    for place, length in kinds + subjects:
-        data += natural(place) + natural(length)
-    data += joined([natural(serial) for serial in serials])
-    for row in fields:
-        data += natural(len(row))
-        for place, sort, number in row:
-            data += natural(place) + [sort] + natural(number)
-    return data
-
-
-def runs(texts, words):
-    found = []
-    for text in texts:
-        place = words.index(text)
-        if found and found[-1][0] == place:
-            found[-1] = (place, found[-1][1] + 1)
-        else:
-            found.append((place, 1))
-    return found
-
-
-def expected_pack(lines):
-    """Pack a segment by another way than the program."""
-    words = {}
-    for _, kind, subject, _, fields in lines:
-        for text in [kind, subject] + [part for field in fields for part in field]:
-            words[text] = True
-    words = sorted([text for text in words if isinstance(text, str)])
-    times = [line[0] for line in lines]
-    fields = []
-    for line in lines:
-        row = []
-        for name, value in line[4]:
-            if isinstance(value, str):
-                row.append((words.index(name), 1, words.index(value)))
-            elif value < 0:
-                row.append((words.index(name), 0, -2 * value - 1))
-            else:
-                row.append((words.index(name), 0, 2 * value))
-        fields.append(row)
-    return raw(words, [now - before for before, now in zip([0] + times, times)],
-               runs([line[1] for line in lines], words), runs([line[2] for line in lines], words),
-               [line[3] for line in lines], fields)
 
 
 def random_segment(rng, many):

@@ -5,6 +5,7 @@ import unittest
 from shedbook.lines import check_line, sorted_lines
 from shedbook.rules import is_consistent
 from shedbook.standing import expired, is_forgotten, is_protected, left_of, standing_lines
+from tests.fates import expected_fate
 from tests.helpers import random_line, random_rule, seeded
 
 LINE = (20, "visit", "anna", 3, (("age", 47), ("town", "lund")))
@@ -12,38 +13,6 @@ LINE = (20, "visit", "anna", 3, (("age", 47), ("town", "lund")))
 
 def with_fields(*fields):
     return LINE[:4] + (fields,)
-
-
-def expected_fields(rules, now, line):
-    """Apply "erase" and "blur" rules by another way than the program: field by field."""
-    found = []
-    for name, value in line[4]:
-        if [r for r in rules if r[:3] == ("erase", line[1], name) and r[3] >= line[0]]:
-            continue
-        for step in range(2, 1001):
-            if [r for r in rules if r[:4] == ("blur", line[1], name, step) and now >= r[4] + line[0]]:
-                if isinstance(value, str):
-                    value = value[:1]
-                else:
-                    while value > -999999 and value % step != 0:
-                        value -= 1
-        found.append((name, value))
-    return tuple(found)
-
-
-def expected_fate(rules, now, line):
-    """Return what stands of a line and what of it expires, by points 10 to 12."""
-    time, kind, subject = line[:3]
-    if [r for r in rules if r[:2] == ("must", kind) and now < time + r[2]]:
-        return (line, None)
-    if [r for r in rules if r[:2] == ("hold", subject) and now < r[2]]:
-        return (line, None)
-    if [r for r in rules if r[:2] == ("forget", subject) and r[2] >= time]:
-        return (None, None)
-    left = line[:4] + (expected_fields(rules, now, line),)
-    if [r for r in rules if r[:2] == ("keep", kind) and now >= time + r[2]]:
-        return (None, left)
-    return (left, None)
 
 
 def random_rules(rng, many):
