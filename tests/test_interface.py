@@ -31,6 +31,9 @@ INTERFACE = {
     "sums": {"window_of": "line width", "add_number": "kept line field width number",
              "window_sums": "rule lines kept", "goes": "rules now row"},
     "images": {"pack_store": "store", "unpack_store": "data"},
+    "walks": {"names_line": "rule now line", "names_sum": "rule row", "names_in_backup": "rule line",
+              "make_record": "store rule", "accepts_record": "image record"},
+    "desk": {"is_discreet": "question"},
 }
 
 CLASSES = {
@@ -48,6 +51,12 @@ CLASSES = {
                     "tell": "line", "sums": "kind field", "ask": "text", "watch": "name text", "unwatch": "name",
                     "watched": "", "news": "", "backup": "name", "restore": "name", "drop_backup": "name",
                     "backup_lines": "name", "backups": ""},
+    "disks.Disk": {"__init__": "", "write": "data limit", "recover": "", "area": "k", "root": "", "steps": "data"},
+    "disks.Vault": {"__init__": "", "store": "", "disk": "", "save": "limit", "fall": ""},
+    "copies.Copies": {"__init__": "many schemas", "tell": "copy line", "rule": "copy rule", "sent": "",
+                      "deliver": "index", "image": "copy"},
+    "desk.Desk": {"__init__": "", "vault": "", "grant": "asker kind level", "revoke": "asker kind", "grants": "",
+                  "may_ask": "asker text", "ask": "asker text", "ledger": ""},
 }
 
 LINE = (12, "visit", "anna", 3, (("age", 47), ("town", "lund")))
@@ -97,6 +106,33 @@ def store():
 
 def image():
     return module("images").pack_store(store())
+
+
+def disk():
+    """Return a disk on which both areas have bytes."""
+    made = module("disks").Disk()
+    made.write([1, 2, 3])
+    made.write([4, 5], 4)
+    return made
+
+
+def copies():
+    made = module("copies").Copies(3, SCHEMAS)
+    made.tell(0, LINE)
+    made.rule(1, ("forget", "bo", 5))
+    return made
+
+
+def desk():
+    made = module("desk").Desk()
+    inner = made.vault().store()
+    inner.set_schema("visit", COLUMNS)
+    inner.tell(LINE)
+    made.grant("eva", "visit", "full")
+    made.grant("dan", "sale", "sums")
+    made.ask("eva", TEXT)
+    made.vault().save()
+    return made
 
 
 def answers():
@@ -238,6 +274,23 @@ CALLS = [
     ("store", "news", (store(),)),
     ("store", "backups", (store(),)),
     ("store", "backup_lines", (store(), "b")),
+    ("disks", "area", (disk(), 0)),
+    ("disks", "area", (disk(), 1)),
+    ("disks", "root", (disk(),)),
+    ("disks", "steps", (disk(), [1, 2])),
+    ("walks", "names_line", (("forget", "anna", 99), 20, LINE)),
+    ("walks", "names_in_backup", (("forget", "anna", 99), LINE)),
+    ("walks", "names_sum", (("forget", "anna", 99), KEPT[0])),
+    ("walks", "make_record", (store(), SUM)),
+    ("walks", "make_record", (store(), ("keep", "visit", 30))),
+    ("walks", "accepts_record", (image(), (SUM, 43, [(("segment", 0), 1)], [(("sums",), KEPT[0])]))),
+    ("walks", "accepts_record", ([0], (SUM, 43, [], []))),
+    ("copies", "sent", (copies(),)),
+    ("copies", "image", (copies(), 0)),
+    ("desk", "is_discreet", (GROUPS,)),
+    ("desk", "grants", (desk(),)),
+    ("desk", "may_ask", (desk(), "eva", TEXT)),
+    ("desk", "ledger", (desk(),)),
 ]
 
 # Calls that change their store, with what is given to them.
@@ -358,6 +411,45 @@ class NothingIsShared(unittest.TestCase):
                 spoil(given)
                 spoil(earlier)
                 self.assertEqual(module("images").pack_store(made), packed)
+
+    def test_bytes_and_schemas_that_are_handed_in(self):
+        given, schemas = [6, 7, 8], {"visit": list(COLUMNS), "sale": []}
+        for limit in (None, 0, 5, 7, 9, 11):
+            written, other = disk(), disk()
+            written.write(given, limit)
+            other.write(list(given), limit)
+            handed = list(given)
+            written.write(handed, limit)
+            other.write(list(given), limit)
+            self.assertEqual(handed, given)
+            spoil(handed)
+            self.assertEqual(shown(written), shown(other))
+            spoil([written.recover(), written.area(0)])
+            self.assertEqual(written.area(0), other.recover())
+        made = module("copies").Copies(2, schemas)
+        self.assertEqual(schemas, {"visit": COLUMNS, "sale": []})
+        wanted = made.image(0)
+        spoil(schemas)
+        self.assertEqual([made.image(0), made.image(1)], [wanted, wanted])
+
+    def test_objects_themselves(self):
+        vault, made = module("disks").Vault(), module("desk").Desk()
+        self.assertIs(vault.store(), vault.store())
+        self.assertIs(vault.disk(), vault.disk())
+        self.assertIs(made.vault(), made.vault())
+
+    def test_stores_of_a_vault_share_nothing_with_its_disk(self):
+        vault = desk().vault()
+        before = vault.disk().area(0)
+        vault.fall()
+        self.assertEqual(len({id(box) for box in boxes_in(vault)}), len(boxes_in(vault)))
+        vault.store().advance(99)
+        self.assertEqual(vault.disk().area(0), before)
+
+    def test_answers_at_a_desk(self):
+        made = desk()
+        spoil(made.ask("eva", "of visit\nrows age"))
+        self.assertEqual(made.ask("eva", "of visit\nrows age"), [(47,)])
 
     def test_unpacked_stores_share_nothing(self):
         given = image()
