@@ -2,11 +2,13 @@
 
 from shedbook.errors import ShedError
 from tests import packing
-from tests.asking import (KINDS, SUBJECTS, loose_text, plain_answer, plain_order, plain_row_key, plain_text,
+from tests.asking import (KINDS, loose_text, plain_answer, plain_order, plain_row_key, plain_text,
                           random_field_value, random_question)
 from tests.fates import expected_fate, expected_going, expected_in_backup
 
 NAMES = ("cost", "town")
+# One subject has the name of a kind.
+SUBJECTS = ("ann", "bo", "sale")
 WORDS = ("a", "b", "c", "d")
 BAD_TEXTS = ("", "of sale", "of sale\nrows", "rows cost", "of sale\nrows cost\nfirst 0")
 BAD_LINES = ((-1, "sale", "ann", 0, ()), (0, "Sale", "ann", 0, ()), (0, "sale", "ann", 10000, ()),

@@ -2,6 +2,7 @@
 
 import ast
 import os
+import re
 import unittest
 
 FOLDER = os.path.join(os.path.dirname(os.path.dirname(os.path.abspath(__file__))), "shedbook")
@@ -15,6 +16,9 @@ BARRED_NODES = (ast.Global, ast.AsyncFunctionDef, ast.Await, ast.With, ast.Set, 
                 ast.Starred, ast.Import)
 BARRED_NAMES = set("""register mro elements open input law type id hash next map iter filter vars dir eval exec
     compile print chr hex bin oct pow round format object""".split())
+
+BARRED_WORDS = set("""typing typing_extensions enum Enum IntEnum StrEnum Flag IntFlag Generic Protocol ABC ABCMeta
+    namedtuple NamedTuple TypedDict TYPE_CHECKING abstractmethod dataclass overload contextmanager""".split())
 
 
 def sources():
@@ -112,6 +116,28 @@ class Language(unittest.TestCase):
                 if isinstance(node, ast.Name) and isinstance(node.ctx, ast.Store) or isinstance(node, ast.arg):
                     name = node.id if isinstance(node, ast.Name) else node.arg
                     self.assertNotIn(name, BUILTINS | set(outer))
+
+    def test_words(self):
+        for text in all_texts():
+            self.assertEqual(sorted(BARRED_WORDS & set(re.findall(r"\w+", text))), [])
+            for node in ast.walk(ast.parse(text)):
+                if isinstance(node, ast.Constant) and isinstance(node.value, str):
+                    self.assertNotIn("%", node.value)
+                    self.assertIsNone(re.search(r"\b__", node.value))
+
+    def test_methods_and_attributes(self):
+        """No name is both in one class, and none is one that builtin values have."""
+        builtin = set(dir(str) + dir(int) + dir(list) + dir(dict) + dir(set) + dir(bytes) + dir(tuple))
+        for text in all_texts():
+            for made in ast.walk(ast.parse(text)):
+                if isinstance(made, ast.ClassDef):
+                    methods = [node.name for node in made.body if isinstance(node, ast.FunctionDef)]
+                    attributes = [node.attr for node in ast.walk(made) if isinstance(node, ast.Attribute)
+                                  and isinstance(node.ctx, ast.Store)]
+                    self.assertEqual(len(methods), len(set(methods)))
+                    self.assertEqual(set(methods) & set(attributes), set())
+                    self.assertLessEqual(set(methods) & builtin, {"__init__", "add", "remove"})
+                    self.assertLessEqual(set(attributes) & builtin, {"index"})
 
     def test_calls(self):
         own = []

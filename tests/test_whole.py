@@ -8,10 +8,10 @@ from shedbook.errors import NotFound, Refused, ShedError
 from shedbook.images import pack_store, unpack_store
 from shedbook.store import Store
 from shedbook.walks import accepts_record, make_record, names_in_backup, names_line, names_sum
-from tests.asking import KINDS, SUBJECTS, plain_answer, plain_order, plain_text, random_question
+from tests.asking import KINDS, plain_answer, plain_order, plain_text, random_question
 from tests.fates import expected_fate
 from tests.helpers import raises, seeded
-from tests.keeping import PlainStore, outcome, random_call, random_told, state
+from tests.keeping import SUBJECTS, PlainStore, outcome, random_call, random_told, state
 from tests.stores import LINE, OTHER, SALE, aged, new_store
 
 
