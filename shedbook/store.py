@@ -145,6 +145,7 @@ class Store:
     def restore(self, name):
         """Tell the lines of a backup; return how many came; raise NotFound if the name is not there."""
         came = 0
+        # Of several lines of which the rules leave the same, only the first one comes.
         for line in standing_lines(self.ruled, self.moment, self.backup_lines(name)):
             if self.put(line):
                 came += 1
