@@ -1,4 +1,4 @@
-"""What the written forms of lines, schemas and rules have in common."""
+"""What the written forms of lines, schemas and rules have in common, and ascending lists."""
 
 from shedbook.errors import Malformed
 from shedbook.values import is_number, is_word, read_integer, write_integer
@@ -37,6 +37,6 @@ def read_bracketed(opening, text, closing):
     return inner.split(",")
 
 
-def is_ascending(words):
-    """Tell whether the words ascend, without duplicates."""
-    return all([words[k] < words[k + 1] for k in range(len(words) - 1)])
+def is_ascending(parts):
+    """Tell whether the parts, which can be compared, ascend without duplicates."""
+    return all([parts[k] < parts[k + 1] for k in range(len(parts) - 1)])
